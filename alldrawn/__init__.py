@@ -1,0 +1,1 @@
+"""Alldrawn: what holds in every drawing of a net without crossings."""

@@ -1,0 +1,44 @@
+"""Section 2: names, and the helpers that several modules share."""
+
+import unittest
+
+from alldrawn.basics import from_first, is_name, pairs_round, pieces, reached
+from tests.helper import Case, FLAT, KITE, TWIG, nested
+
+
+class Names(Case):
+    def test_names(self):
+        for value in ("a", "z", "place", "abcdefgh", "zzzzzzzz"):
+            self.assertIs(is_name(value), True)
+
+    def test_no_names(self):
+        for value in ("", "abcdefghi", "A", "aB", "a1", "a b", " a", "a ", "a_", "a-b", "a\n", "\n", "'", "1",
+                      None, True, False, 0, 1, (), ("a",), ["a"], ["a", "b"], {}, {"a": "b"}, nested("tuple", "a"),
+                      KITE, FLAT):
+            with self.subTest(value=value):
+                self.assertIs(is_name(value), False)
+
+
+class Cycles(Case):
+    def test_pairs_round(self):
+        self.same(pairs_round(("a", "b", "c")), [("a", "b"), ("b", "c"), ("c", "a")])
+
+    def test_from_first(self):
+        self.same(from_first(("d", "c", "b", "a"), ("a", "b", "c")), ("c", "a", "b"))
+        self.same(from_first(("a", "b", "c"), ("a", "c", "b")), ("a", "c", "b"))
+
+
+class Pieces(Case):
+    def test_reached(self):
+        self.same(reached(TWIG, "b", ("u", "t", "d", "b")), ("d", "b"))
+        self.same(reached(TWIG, "t", ["u", "t", "d", "b"]), ("t",))
+        self.same(reached(TWIG, "u", TWIG.places), TWIG.places)
+
+    def test_pieces(self):
+        self.same(pieces(TWIG, ("u", "t", "d", "b")), [("u",), ("t",), ("d", "b")])
+        self.same(pieces(TWIG, ["b", "t", "u", "a", "d"]), [("b", "t", "u", "a", "d")])
+        self.same(pieces(TWIG, ()), [])
+
+
+if __name__ == "__main__":
+    unittest.main()
