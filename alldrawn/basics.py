@@ -11,6 +11,11 @@ def is_name(value):
     return all([letter in LETTERS for letter in value])
 
 
+def is_number(value, many):
+    """Whether any value is one of so many numbers: an integer, no bool, from 0 on."""
+    return isinstance(value, int) and not isinstance(value, bool) and 0 <= value < many
+
+
 def pairs_round(cycle):
     """Each member of a cycle with the next one, the last one with the first: a list of pairs."""
     return list(zip(cycle, cycle[1:] + cycle[:1]))

@@ -1,6 +1,9 @@
 """Nets, values and slow second opinions for the tests."""
 
+import functools
 import itertools
+import math
+import random
 import unittest
 
 from alldrawn.drawings import Drawing
@@ -39,6 +42,12 @@ FULL_TIES = (LONG_TIES + [(one, other) for one, other in itertools.combinations(
 FULL = Net(text_of(LETTERS, FULL_TIES))
 
 FLAT = Drawing(KITE, (("b", "c", "d"), ("a", "c"), ("d", "a", "b"), ("a", "c")))
+
+# A ring of sixteen places, and ties over each one of its places but two: each bars the next one.
+CHAIN_TIES = LONG_TIES + [(LETTERS[at], LETTERS[at + 2]) for at in range(14)]
+CHAIN = Net(text_of(LETTERS, CHAIN_TIES))
+# With this tie the chain goes round, over an odd number of them: there is no drawing.
+ODD = CHAIN + ("o", "b")
 
 
 def nested(kind, inner):
@@ -176,3 +185,274 @@ def side_of(drawing, ring, thing):
     assert len(sides) == 2
     way = thing if isinstance(thing, tuple) else (thing, drawing.net[thing][0])
     return [number for number, side in enumerate(sides) if beside[way] in side][0]
+
+
+# Nets of all kinds.
+
+
+@functools.lru_cache(maxsize=None)
+def all_nets(many):
+    """Each net of so many places once, by other names too."""
+    places = tuple(LETTERS[:many])
+    pairs = list(itertools.combinations(range(many), 2))
+    number = {frozenset(pair): at for at, pair in enumerate(pairs)}
+    others = [[1 << number[frozenset((order[a], order[b]))] for a, b in pairs]
+              for order in itertools.permutations(range(many))]
+    seen, found = set(), []
+    for mask in range(1 << len(pairs)):
+        at = [k for k in range(len(pairs)) if mask >> k & 1]
+        if len(at) >= many and mask not in seen:
+            seen.update(sum(order[k] for k in at) for order in others)
+            ties = [(places[pairs[k][0]], places[pairs[k][1]]) for k in at]
+            if not not_tied(places, ties):
+                found.append(Net(text_of(places, ties)))
+    return tuple(found)
+
+
+def up_to(many):
+    return [net for number in range(3, many + 1) for net in all_nets(number)]
+
+
+@functools.lru_cache(maxsize=None)
+def grown(seed, places=16, ties=42):
+    """A net that grows road by road, in a drawing that is known: (net, lands)."""
+    chance = random.Random(seed)
+    first = 3 + seed % 4
+    names = list(LETTERS[:first])
+    lands = [tuple(names), tuple(names[::-1])]
+    drawn = [(names[at - 1], names[at]) for at in range(first)]
+    for _ in range(200):
+        land = chance.choice(lands)
+        one, other = chance.sample(land, 2)
+        inner = tuple(LETTERS[len(names):len(names) + chance.choice((0, 0, 0, 1, 1, 2))])
+        road = (one,) + inner + (other,)
+        new = list(zip(road, road[1:]))
+        if len(names) + len(inner) > places or len(drawn) + len(new) > ties:
+            continue
+        if not inner and {(one, other), (other, one)} & set(drawn):
+            continue
+        names.extend(inner)
+        drawn.extend(new)
+        lands.remove(land)
+        lands.extend(parted(land, road))
+    return Net(text_of(names, drawn)), tuple(lands)
+
+
+def parted(land, road):
+    """The two lands into which a road parts a land."""
+    at, to = land.index(road[0]), land.index(road[-1])
+    over = land[at:to + 1] if at < to else land[at:] + land[:to + 1]
+    under = land[to:at + 1] if to < at else land[to:] + land[:at + 1]
+    return [over[:-1] + road[:0:-1], under[:-1] + road[:-1]]
+
+
+# For each letter another name, in another alphabetical sequence.
+OTHER_NAMES = {letter: "zyxwvutsrqponmlkjihgfedcba"[at] * (1 + at * 5 % 8)
+               for at, letter in enumerate("abcdefghijklmnopqrstuvwxyz")}
+
+
+def renamed(net, names):
+    """A net whose places have other names, by a dict."""
+    return Net(text_of([names[place] for place in net.places], [(names[a], names[b]) for a, b in net.ties]))
+
+
+def told_by(names, value):
+    """A value in which other names stand for places."""
+    if isinstance(value, tuple):
+        return tuple(told_by(names, part) for part in value)
+    return names.get(value, value)
+
+
+def with_place_within(net, tie, place="zz"):
+    """The net in which a tie is exchanged for two, by a new place between its ends."""
+    ties = [other for other in net.ties if set(other) != set(tie)]
+    return Net(text_of(net.places + (place,), ties + [(tie[0], place), (place, tie[1])]))
+
+
+# All drawings.
+
+
+def around(net, lands):
+    """The wheels that belong to these lands."""
+    after = {}
+    for land in lands:
+        for at, place in enumerate(land):
+            after[place, land[at - 1]] = land[(at + 1) % len(land)]
+    wheels = []
+    for place in net.places:
+        wheel = [net[place][0]]
+        while after[place, wheel[-1]] != wheel[0]:
+            wheel.append(after[place, wheel[-1]])
+        wheels.append(tuple(wheel))
+    return tuple(wheels)
+
+
+def roads_of(net):
+    """A ring, and roads behind it, each from what is there to what is there, of which a net consists."""
+    ring = min(rings_of_any(net), key=len)
+    there, used, roads = list(ring), own_ties(ring), []
+    while len(used) < len(net.ties):
+        tails = [(place,) for place in there]
+        while tails:
+            tail = tails.pop(0)
+            for place in net[tail[-1]]:
+                if {tail[-1], place} in used or place in tail:
+                    continue
+                if place in there:
+                    road = tail + (place,)
+                    tails = []
+                    break
+                tails.append(tail + (place,))
+        roads.append(road)
+        there.extend(road[1:-1])
+        used.extend(set(tie) for tie in zip(road, road[1:]))
+    return ring, roads
+
+
+def rings_of_any(net):
+    """Some rings of a net: over each tie a shortest one."""
+    found = []
+    for one, other in net.ties:
+        tails = [(one, other)]
+        while not net.tied(tails[0][-1], one) or len(tails[0]) < 3:
+            tail = tails.pop(0)
+            tails.extend(tail + (place,) for place in net[tail[-1]] if place not in tail)
+        found.append(tails[0])
+    return found
+
+
+@functools.lru_cache(maxsize=None)
+def _drawings_by_roads(text):
+    net = Net(text)
+    ring, roads = roads_of(net)
+    all_lands = [[ring, ring[::-1]]]
+    for road in roads:
+        all_lands = [[other for other in lands if other != land] + parted(land, road) for lands in all_lands
+                     for land in lands if road[0] in land and road[-1] in land]
+    return [Drawing(net, around(net, lands)) for lands in all_lands]
+
+
+def drawings_by_roads(net):
+    """All drawings of a net: each road is drawn through each land that has both its ends."""
+    return _drawings_by_roads(net.text)
+
+
+def count_wheels(net):
+    return math.prod(math.factorial(len(net[place]) - 1) for place in net.places)
+
+
+@functools.lru_cache(maxsize=None)
+def _drawings_by_wheels(text):
+    net = Net(text)
+    ways = [(one, other) for one in net.places for other in net[one]]
+    number = {way: at for at, way in enumerate(ways)}
+    room = len(net.ties) - len(net.places) + 2
+    choices = []
+    for place in net.places:
+        first, *rest = net[place]
+        choices.append([])
+        for order in itertools.permutations(rest):
+            wheel = (first,) + order
+            choices[-1].append((wheel, [(number[near, place], number[place, wheel[(at + 1) % len(wheel)]])
+                                        for at, near in enumerate(wheel)]))
+    found = []
+    for chosen in itertools.product(*choices):
+        after = [0] * len(ways)
+        for _, steps in chosen:
+            for way, ahead in steps:
+                after[way] = ahead
+        lands = 0
+        for start in range(len(ways)):
+            if after[start] >= 0:
+                lands += 1
+                while after[start] >= 0:
+                    after[start], start = -1, after[start]
+        if lands == room:
+            found.append(Drawing(net, tuple(wheel for wheel, _ in chosen)))
+    return found
+
+
+def drawings_by_wheels(net):
+    """All drawings of a net: all choices of wheels are gone through one by one."""
+    return _drawings_by_wheels(net.text)
+
+
+MOST_WHEELS = 130000
+
+
+def all_drawings(net):
+    """All drawings of a net, by wheels if there are few enough."""
+    return drawings_by_wheels(net) if count_wheels(net) <= MOST_WHEELS else drawings_by_roads(net)
+
+
+# Values that are nearly right.
+
+
+def bent(value):
+    """The same value, bent in one part, at any depth."""
+    if isinstance(value, tuple):
+        yield from (list(value), value + (None,), (value,), value[:-1], value[1:], value[::-1], dict(enumerate(value)))
+        yield from (value + value[-1:], value[:1] + value)
+        for at, part in enumerate(value):
+            for other in bent(part):
+                yield value[:at] + (other,) + value[at + 1:]
+            yield value[:at] + value[at + 1:]
+            yield value[:at] + (part, part) + value[at + 1:]
+            if at:
+                yield value[:at - 1] + (part, value[at - 1]) + value[at + 1:]
+    elif isinstance(value, bool) or value is None:
+        yield from (not value, 0, 1, "")
+    elif isinstance(value, str):
+        yield from (value + "a", value[:-1], "a", "b", "t", "", "q", 0, True, None, (value,), [value], {value: value})
+    elif isinstance(value, int):
+        yield from (value + 1, value - 1, value + 2, -value, bool(value), str(value), None, (value,), [value])
+    elif isinstance(value, Drawing):
+        yield from (~value, value.net, value.wheels, value.lands, None, "drawing", FLAT, (value,), [value])
+
+
+def marked(value):
+    """A value in which each part has its kind beside it, so that == is strict."""
+    if isinstance(value, (tuple, list)):
+        return type(value).__name__, [marked(part) for part in value]
+    if isinstance(value, dict):
+        return "dict", [(marked(key), marked(value[key])) for key in value]
+    if isinstance(value, Drawing):
+        return "Drawing", value.net.places, value.net.ties, value.wheels
+    return type(value).__name__, str(value)
+
+
+def is_tuple_of(value, check):
+    return isinstance(value, tuple) and all(check(part) for part in value)
+
+
+def right_stuck(places, tied, hubs, roads):
+    """Whether hubs and roads are a stuck net, straight from section 7."""
+    def is_name(value):
+        return isinstance(value, str) and value in places
+
+    if not is_tuple_of(hubs, is_name) or not is_tuple_of(roads, lambda road: is_tuple_of(road, is_name)):
+        return False
+    if hubs != tuple(sorted(set(hubs))):
+        return False
+    for at, road in enumerate(roads):
+        others = {place for to, other in enumerate(roads) if to != at for place in other}
+        if len(road) < 2 or len(set(road)) < len(road) or not {road[0], road[-1]} <= set(hubs):
+            return False
+        if set(road[1:-1]) & (set(hubs) | others) or not all(tied(*tie) for tie in zip(road, road[1:])):
+            return False
+    ends = sorted(sorted((road[0], road[-1])) for road in roads)
+    if len(hubs) == 5:
+        return ends == sorted(map(sorted, itertools.combinations(hubs, 2)))
+    if len(hubs) != 6:
+        return False
+    return any(ends == sorted(sorted((one, other)) for one in three for other in set(hubs) - set(three))
+               for three in itertools.combinations(hubs, 3))
+
+
+def right_answer(value, yes, drawing_is_right, no, places, tied):
+    """Whether a value is (yes, drawing) with a right drawing, or (no, hubs, roads) with a stuck net."""
+    if not isinstance(value, tuple) or not value or not isinstance(value[0], str):
+        return False
+    if value[0] == yes and len(value) == 2:
+        return isinstance(value[1], Drawing) and drawing_is_right(value[1])
+    return value[0] == no and len(value) == 3 and right_stuck(places, tied, value[1], value[2])

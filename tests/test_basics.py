@@ -2,7 +2,7 @@
 
 import unittest
 
-from alldrawn.basics import from_first, is_name, pairs_round, pieces, reached
+from alldrawn.basics import from_first, is_name, is_number, pairs_round, pieces, reached
 from tests.helper import Case, FLAT, KITE, TWIG, nested
 
 
@@ -17,6 +17,18 @@ class Names(Case):
                       KITE, FLAT):
             with self.subTest(value=value):
                 self.assertIs(is_name(value), False)
+
+
+class Numbers(Case):
+    def test_numbers(self):
+        for value in (0, 1, 2, 9):
+            self.assertIs(is_number(value, 10), True)
+
+    def test_no_numbers(self):
+        for value in (-1, 10, 10 ** 39, True, False, None, "", "1", "a", (), (1,), [1], {}, {1: 1}, KITE, FLAT):
+            with self.subTest(value=value):
+                self.assertIs(is_number(value, 10), False)
+        self.assertIs(is_number(0, 0), False)
 
 
 class Cycles(Case):

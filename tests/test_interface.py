@@ -3,12 +3,26 @@
 import inspect
 import unittest
 
-from alldrawn import drawings, nets, rings
-from tests.helper import Case, FLAT, KITE
+from alldrawn import drawings, flat, nets, parts, rings, sides, wishes
+from tests.helper import Case, FLAT, KITE, SQUARE, TWIG
 
 FUNCTIONS = (
     (rings, "hanging", ["net", "ring"]),
     (rings, "barring", ["net", "ring"]),
+    (flat, "draw", ["net"]),
+    (flat, "shows_draw", ["net", "value"]),
+    (sides, "sides", ["net", "ring", "one", "other"]),
+    (sides, "shows_sides", ["net", "ring", "one", "other", "value"]),
+    (sides, "as_land", ["net", "ring"]),
+    (sides, "shows_as_land", ["net", "ring", "value"]),
+    (wishes, "meet", ["net", "some"]),
+    (wishes, "shows_meet", ["net", "some", "value"]),
+    (wishes, "beside", ["net", "place", "some"]),
+    (wishes, "shows_beside", ["net", "place", "some", "value"]),
+    (wishes, "with_ties", ["net", "ties"]),
+    (wishes, "shows_with_ties", ["net", "ties", "value"]),
+    (parts, "parts", ["net"]),
+    (parts, "shows_parts", ["net", "value"]),
 )
 METHODS = (
     (nets, "Net", "__init__", ["self", "text"]),
@@ -78,6 +92,30 @@ class Interface(Case):
         self.assertEqual(FLAT.land(other="b", one="c"), ("a", "c", "b"))
         self.assertEqual(FLAT.in_turn(c="b", b="d", a="c", place="a"), True)
         self.assertEqual(FLAT.apart(other=("d", "c"), one="d", ring=("a", "b", "c")), False)
+
+    def test_arguments_of_questions_by_name(self):
+        ring = ("a", "b", "c", "d")
+        value = flat.draw(net=KITE)
+        self.assertEqual(value, flat.draw(KITE))
+        self.assertIs(flat.shows_draw(value=value, net=KITE), True)
+        value = sides.sides(other="u", one="t", ring=ring, net=TWIG)
+        self.assertEqual(value, sides.sides(TWIG, ring, "t", "u"))
+        self.assertIs(sides.shows_sides(value=value, other="u", one="t", ring=ring, net=TWIG), True)
+        value = sides.as_land(ring=ring, net=TWIG)
+        self.assertEqual(value, sides.as_land(TWIG, ring))
+        self.assertIs(sides.shows_as_land(value=value, ring=ring, net=TWIG), True)
+        value = wishes.meet(some=("t", "u"), net=TWIG)
+        self.assertEqual(value, wishes.meet(TWIG, ("t", "u")))
+        self.assertIs(wishes.shows_meet(value=value, some=("t", "u"), net=TWIG), True)
+        value = wishes.beside(some=("b", "t"), place="a", net=TWIG)
+        self.assertEqual(value, wishes.beside(TWIG, "a", ("b", "t")))
+        self.assertIs(wishes.shows_beside(value=value, some=("b", "t"), place="a", net=TWIG), True)
+        value = wishes.with_ties(ties=(("a", "c"),), net=SQUARE)
+        self.assertEqual(value, wishes.with_ties(SQUARE, (("a", "c"),)))
+        self.assertIs(wishes.shows_with_ties(value=value, ties=(("a", "c"),), net=SQUARE), True)
+        value = parts.parts(net=TWIG)
+        self.assertEqual(value, parts.parts(TWIG))
+        self.assertIs(parts.shows_parts(value=value, net=TWIG), True)
 
 
 if __name__ == "__main__":
