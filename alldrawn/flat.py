@@ -169,11 +169,12 @@ def untied(near, one, other):
 def least_stuck(near):
     """Of a net without a drawing what is left when all is taken away without which there still is none."""
     left = near
-    for place in near:
-        left = stuck_block(within(left, [other for other in left if other != place])) or left
-    for one, other in [(one, other) for one in near for other in near[one] if one < other]:
-        if one in left and other in left[one]:
-            left = stuck_block(untied(left, one, other)) or left
+    for gone in near:
+        left = stuck_block(within(left, [place for place in left if place != gone])) or left
+    ties = [(one, other) for one in near for other in near[one] if one < other]
+    for start, end in ties:
+        if start in left and end in left[start]:
+            left = stuck_block(untied(left, start, end)) or left
     return left
 
 

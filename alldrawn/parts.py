@@ -20,14 +20,13 @@ def places_at(places, ties):
 
 
 def groups_between(ties, places, one, other):
-    """The ties between two places, and behind them, for each piece of the others, all ties at it: a list of lists."""
+    """For each piece that is left without two of the places, all ties that have an end in it: a list of lists."""
     off = [place for place in places if place not in (one, other)]
     near = {place: [] for place in places}
     for start, end, _ in ties:
         near[start].append(end)
         near[end].append(start)
-    single = [tie for tie in ties if tie[:2] == (one, other)]
-    return [single] + [[tie for tie in ties if tie[0] in piece or tie[1] in piece] for piece in pieces(near, off)]
+    return [[tie for tie in ties if tie[0] in piece or tie[1] in piece] for piece in pieces(near, off)]
 
 
 def sort_of(places, ties):

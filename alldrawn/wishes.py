@@ -5,9 +5,9 @@ it is told by a dict that has the neighbours of each place.
 """
 
 from alldrawn.basics import pairs_round
-from alldrawn.errors import BadPlaces, BadTies, Full
+from alldrawn.errors import BadPlaces, BadTies
 from alldrawn.flat import draw, drawing_of, is_drawing_of, near_of, stuck_in, tells, tells_stuck, wheels_in
-from alldrawn.nets import MOST_TIES, check_place, is_free
+from alldrawn.nets import is_free
 
 FURTHER = ""
 FEWEST_MEETING = 2
@@ -64,7 +64,6 @@ def shows_meet(net, some, value):
 
 def check_beside(net, place, some):
     """NoPlace; BadPlaces, unless some is a tuple of unlike neighbours, two at least, and two at least are not in it."""
-    check_place(net, place)
     near = net[place]
     if not are_unlike(near, some) or not FEWEST_BESIDE <= len(some) <= len(near) - FEWEST_BESIDE:
         raise BadPlaces(some)
@@ -115,19 +114,18 @@ def shows_beside(net, place, some, value):
 
 
 def check_further(net, ties):
-    """BadTies, unless a value is a tuple of one to five ties that the net can have, too, all at once; Full."""
+    """BadTies, unless a value is a tuple of one to five ties that the net does not have, no two of them the same."""
     if not isinstance(ties, tuple) or not 1 <= len(ties) <= MOST_FURTHER_TIES:
         raise BadTies(ties)
     if not all([is_free(net, tie) for tie in ties]):
         raise BadTies(ties)
     if len(set([tuple(sorted(tie)) for tie in ties])) < len(ties):
         raise BadTies(ties)
-    if len(net.ties) + len(ties) > MOST_TIES:
-        raise Full(MOST_TIES)
 
 
 def net_with(net, ties):
-    """The Net with these ties, too."""
+    """The Net with these ties, too: BadTies, Full."""
+    check_further(net, ties)
     whole = net
     for tie in ties:
         whole = whole + tie
@@ -139,7 +137,6 @@ def with_ties(net, ties):
 
     ("some", drawing), or ("never", hubs, roads), of the Net with these ties, too.
     """
-    check_further(net, ties)
     found = draw(net_with(net, ties))
     word = "some" if found[0] == "drawing" else "never"
     return (word, *found[1:])
@@ -147,7 +144,6 @@ def with_ties(net, ties):
 
 def shows_with_ties(net, ties, value):
     """Whether any value is a correct result of with_ties: BadTies, Full."""
-    check_further(net, ties)
     whole = net_with(net, ties)
     if tells(value, "some", 2):
         return is_drawing_of(whole, value[1])

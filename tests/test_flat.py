@@ -250,6 +250,26 @@ class ShowsDraw(Case):
             self.assertIs(self.check(full, ("stuck", five, roads)), True)
             self.assertIs(self.check(full, ("stuck", full.places, roads)), False)
 
+    def test_hubs_in_one_and_five_and_in_two_and_four(self):
+        full = net_of("a b c d e f", "ab ac ad ae af bc bd be bf cd ce cf de df ef")
+        for many in (1, 2, 4, 5):
+            for some in itertools.combinations("abcdef", many):
+                rest = [place for place in "abcdef" if place not in some]
+                value = ("stuck", full.places, tuple(itertools.product(some, rest)))
+                self.assertIs(self.check(full, value), False)
+
+    def test_four_hubs(self):
+        # Nine roads, three from each one of three hubs to the same one.
+        roads = [(hub, "x") if not inner else (hub, inner, "x") for hub, more in zip("abc", ("de", "fg", "hi"))
+                 for inner in ("", *more)]
+        ties = {tuple(sorted(tie)) for road in roads for tie in zip(road, road[1:])} | {("a", "b"), ("b", "c")}
+        net = Net(text_of("abcdefghix", sorted(ties)))
+        self.assertIs(self.check(net, ("stuck", ("a", "b", "c", "x"), tuple(roads))), False)
+        for many in (0, 1, 3, 4, 7):
+            roads = tuple(itertools.combinations(TEN.places[:many], 2))
+            self.assertIs(self.check(TEN, ("stuck", TEN.places[:many], roads)), False)
+        self.assertIs(self.check(TEN, ("stuck", TEN.places[:5], tuple(itertools.combinations("abcde", 2)))), True)
+
     def test_nothing_that_has_a_drawing_is_stuck(self):
         for net in (FOUR, BALL, KITE):
             for hubs in (net.places, net.places[:5]):

@@ -16,7 +16,9 @@ RIGHT = (("row", ("a", "b", "c"), (("a", "b"), ("b", "c")), (("a", "c", 1),)),
          ("row", ("a", "c", "d"), (("a", "d"), ("c", "d")), (("a", "c", 1),)))
 # Two places, and a road over each of the fourteen others between them.
 ROADS = Net(text_of(LETTERS, [(end, place) for end in "ab" for place in LETTERS[2:]]))
-# A ring of six, on each tie of which a further ring of three hangs, and on that one more.
+# Three bundles of two roads each between three places, which are a row of thin ties alone.
+THIN = net_of("a b c d e f g h i", "ad db ae eb bf fc bg gc ch ha ci ia")
+# A ring of six, and a further road over each tie of it.
 SPROUT = net_of("a b c d e f g h i j k l", "ab bc cd de ef fa ag gb bh hc ci id dj je ek kf fl la")
 
 
@@ -188,8 +190,7 @@ class Parts(Case):
         self.check(SPROUT)
 
     def test_rows_of_thin_ties_alone(self):
-        net = net_of("a b c d e f g h i", "ad db ae eb bf fc bg gc ch ha ci ia")
-        found = self.check(net)
+        found = self.check(THIN)
         self.same(sorted(part[0] for part in found), ["bundle"] * 3 + ["row"] * 7)
         self.assertIn(("row", ("a", "b", "c"), ()), [part[:3] for part in found])
         self.assertIn(("bundle", ("a", "b"), ()), [part[:3] for part in found])
@@ -263,6 +264,25 @@ class ShowsParts(Case):
             self.assertLess(100, right.count(False))
         for worse in bent(RIGHT):
             self.check(KITE, worse)
+        for worse in bent(parts(THIN)):
+            self.check(THIN, worse)
+
+    def test_shared_with_another_part_of_the_same_ties(self):
+        value = parts(THIN)
+        row = [at for at, part in enumerate(value) if part[1] == ("a", "b", "c")][0]
+        thin = value[row][3]
+        for order in itertools.permutations([tie[2] for tie in thin]):
+            told = tuple(tie[:2] + (to,) for tie, to in zip(thin, order))
+            self.check(THIN, value[:row] + (value[row][:3] + (told,),) + value[row + 1:])
+
+    def test_parts_that_cannot_be_put_in_a_sequence(self):
+        row, bundle, last = RIGHT
+        for some in ((None,), (0,), (("a", 1),), (("a", None),), (KITE,), ((("a",), "b"),), (["a"],), ({},)):
+            for at in (1, 2, 3):
+                worse = row[:at] + (some,) + row[at + 1:]
+                self.assertIs(self.check(KITE, (worse, row, last)), False)
+                self.assertIs(self.check(KITE, (row, worse, bundle)), False)
+                self.assertIs(self.check(KITE, (worse[:at] + (some * 2,) + worse[at + 1:], row, worse)), False)
 
     def test_kinds(self):
         row, bundle, last = RIGHT

@@ -8,9 +8,9 @@ from alldrawn.errors import BadRing, NoDrawing, NotOff
 from alldrawn.nets import Net
 from alldrawn.rings import barring, hanging
 from alldrawn.sides import as_land, shows_as_land, shows_sides, sides
-from tests.helper import (BALL, CHAIN, Case, FIVE, FLAT, FOUR, FULL, KITE, LETTERS, LONG, ODD, SQUARE, TEN, TENT, THREES,
-                          TRIANGLE, TWIG, WHEEL, all_drawings, bent, drawings_by_roads, grown, groups, lands_of, nested,
-                          net_of, own_ties, rings_once, text_of, things_off, up_to, wrong_values)
+from tests.helper import (BALL, CHAIN, Case, FIVE, FLAT, FOUR, FULL, KITE, LETTERS, LONG, ODD, SQUARE, TEN, TENT,
+                          THREES, TRIANGLE, TWIG, WHEEL, all_drawings, bent, drawings_by_roads, grown, groups, lands_of,
+                          nested, net_of, own_ties, rings_once, text_of, things_off, up_to, wrong_values)
 from tests.test_rings import slow_bars, slow_hanging
 
 AROUND = ("a", "b", "c", "d")
@@ -363,6 +363,7 @@ class AsLand(Case):
                         found = self.check(net, told, words[seen.pop() if len(seen) == 1 else None])
                         for drawing in found[1:] if found[0] == "open" else ():
                             self.assertIn(drawing, drawings)
+                        self.assertIs(shows_as_land(net, told, ("always",)), found[0] == "always")
                     elif to % 5 == 0:
                         self.refused(NoDrawing, None, as_land, net, told)
 

@@ -7,9 +7,9 @@ from alldrawn.drawings import Drawing
 from alldrawn.errors import BadPlaces, BadTies, Full, NoPlace
 from alldrawn.nets import Net
 from alldrawn.wishes import beside, meet, shows_beside, shows_meet, shows_with_ties, with_ties
-from tests.helper import (BALL, CHAIN, Case, FIVE, FLAT, FOUR, FULL, KITE, LONG, ODD, SQUARE, TEN, THREES, TRIANGLE, TWIG,
-                          WHEEL, all_drawings, bent, drawings_by_roads, grown, nested, net_of, right_answer, text_of,
-                          up_to, wrong_values)
+from tests.helper import (BALL, CHAIN, Case, FIVE, FLAT, FOUR, FULL, KITE, LONG, ODD, SQUARE, TEN, THREES, TRIANGLE,
+                          TWIG, WHEEL, all_drawings, bent, drawings_by_roads, grown, nested, net_of, right_answer,
+                          text_of, up_to, wrong_values)
 
 
 def lands_meet(drawing, some):
