@@ -21,11 +21,26 @@ def pairs_round(cycle):
     return list(zip(cycle, cycle[1:] + cycle[:1]))
 
 
+def from_member(cycle, member):
+    """A cycle, told from one of its members on."""
+    at = cycle.index(member)
+    return cycle[at:] + cycle[:at]
+
+
 def from_first(places, cycle):
     """A cycle of some of these places, told from the one on that is the first in `places`."""
-    first = [place for place in places if place in cycle][0]
-    at = cycle.index(first)
-    return cycle[at:] + cycle[:at]
+    return from_member(cycle, [place for place in places if place in cycle][0])
+
+
+def comes_ahead(cycle, a, b, c):
+    """Whether, in a cycle, from its member a on, b comes ahead of c."""
+    told = from_member(cycle, a)
+    return told.index(b) < told.index(c)
+
+
+def ends_of_run(cycle, some):
+    """How often, in a cycle, one of some members is followed by another member: once, if they stand together."""
+    return len([one for one, other in pairs_round(cycle) if one in some and other not in some])
 
 
 def reached(near, start, some):

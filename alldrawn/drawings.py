@@ -1,6 +1,6 @@
 """Drawings of a net on a ball, without crossings."""
 
-from alldrawn.basics import from_first, pairs_round
+from alldrawn.basics import comes_ahead, from_first, pairs_round
 from alldrawn.errors import BadLook, BadTie, BadWheels, Crossed
 from alldrawn.rings import check_off, check_ring, hanging, holds
 
@@ -87,10 +87,7 @@ class Drawing:
         """Whether, in the wheel of place, from a on, b comes ahead of c: BadLook."""
         if not self._is_look(place, a, b, c):
             raise BadLook((place, a, b, c))
-        turned = self._around[place]
-        at = turned.index(a)
-        turned = turned[at:] + turned[:at]
-        return turned.index(b) < turned.index(c)
+        return comes_ahead(self._around[place], a, b, c)
 
     def apart(self, ring, one, other):
         """Whether two things off the ring lie on unlike sides of it: BadRing, NotOff for one, then for other."""

@@ -5,7 +5,7 @@ road, each through a land that has both its ends. A land is told as (side, walk)
 places in the order of the walk. What is not drawn yet hangs on what is, in parts (places, feet), as on a ring.
 """
 
-from alldrawn.basics import pairs_round, pieces
+from alldrawn.basics import from_member, pairs_round, pieces
 from alldrawn.drawings import Drawing
 from alldrawn.errors import NoDrawing
 
@@ -88,8 +88,7 @@ def road_of(near, part):
 def halves(land, road):
     """The two lands into which a road parts a land."""
     side, walk = land
-    at = walk.index(road[0])
-    walk = walk[at:] + walk[:at]
+    walk = from_member(walk, road[0])
     to = walk.index(road[-1])
     inner = road[1:-1]
     return [(side, walk[:to + 1] + inner[::-1]), (side, walk[to:] + walk[:1] + inner)]

@@ -29,13 +29,16 @@ def is_own(ring, tie):
     return tie in own or (tie[1], tie[0]) in own
 
 
+def is_off(net, ring, value):
+    """Whether any value is a place or a tie off the ring."""
+    if value in net:
+        return value not in ring
+    return is_tie(net, value) and not is_own(ring, value)
+
+
 def check_off(net, ring, value):
     """NotOff, unless a value is a place or a tie off the ring."""
-    if value in net:
-        off = value not in ring
-    else:
-        off = is_tie(net, value) and not is_own(ring, value)
-    if not off:
+    if not is_off(net, ring, value):
         raise NotOff(value)
 
 

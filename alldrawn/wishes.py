@@ -4,7 +4,7 @@ Each wish comes true just if a changed net can be drawn. This one may have a fur
 it is told by a dict that has the neighbours of each place.
 """
 
-from alldrawn.basics import pairs_round
+from alldrawn.basics import ends_of_run, from_member
 from alldrawn.errors import BadPlaces, BadTies
 from alldrawn.flat import draw, drawing_of, is_drawing_of, near_of, stuck_in, tells, tells_stuck, wheels_in
 from alldrawn.nets import is_free
@@ -82,10 +82,7 @@ def net_beside(net, place, some):
 def without_tie_between(wheels, place):
     """Wheels with a further place, as they are when it is drawn up to the place with which it is tied."""
     left = {here: tuple([place if other == FURTHER else other for other in wheels[here]]) for here in wheels}
-    further = wheels[FURTHER]
-    at = further.index(place)
-    to = wheels[place].index(FURTHER)
-    left[place] = wheels[place][:to] + further[at + 1:] + further[:at] + wheels[place][to + 1:]
+    left[place] = from_member(wheels[FURTHER], place)[1:] + from_member(wheels[place], FURTHER)[1:]
     return left
 
 
@@ -109,8 +106,7 @@ def shows_beside(net, place, some, value):
         return tells_stuck(net_beside(net, place, some), "never", value)
     if not is_drawing_of(net, value[1]):
         return False
-    wheel = value[1].wheels[net.places.index(place)]
-    return len([one for one, other in pairs_round(wheel) if one in some and other not in some]) == 1
+    return ends_of_run(value[1].wheels[net.places.index(place)], some) == 1
 
 
 def check_further(net, ties):

@@ -187,6 +187,48 @@ def side_of(drawing, ring, thing):
     return [number for number, side in enumerate(sides) if beside[way] in side][0]
 
 
+def free_ties(net):
+    """All ties that a net does not have."""
+    return [tie for tie in itertools.combinations(net.places, 2) if not net.tied(*tie)]
+
+
+def wheel_from(drawing, place, near):
+    """The wheel of a place, told from a neighbour on."""
+    wheel = drawing.wheels[drawing.net.places.index(place)]
+    return wheel[wheel.index(near):] + wheel[:wheel.index(near)]
+
+
+def looks_of(net):
+    """All looks at drawings of a net, ascending."""
+    found = []
+    for place in net.places:
+        for three in itertools.combinations(net[place], 3):
+            found += [(place,) + three, (place, three[0], three[2], three[1])]
+    return sorted(found)
+
+
+def look_is_so(drawing, look):
+    told = wheel_from(drawing, look[0], look[1])
+    return told.index(look[2]) < told.index(look[3])
+
+
+def drawings_having(drawings, looks):
+    return [drawing for drawing in drawings if all(look_is_so(drawing, look) for look in looks)]
+
+
+def fewest_crossed(drawing, one, other):
+    """How many ties a further tie crosses at the least in one drawing, from land to land."""
+    lands = lands_of(drawing.net, drawing.wheels)
+    beside = {way: number for number, land in enumerate(lands) for way in land}
+    level = {beside[one, near] for near in drawing.net[one]}
+    goal = {beside[other, near] for near in drawing.net[other]}
+    number = 0
+    while not level & goal:
+        number += 1
+        level |= {beside[way[::-1]] for land in level for way in lands[land]}
+    return number
+
+
 # Nets of all kinds.
 
 
@@ -267,6 +309,42 @@ def with_place_within(net, tie, place="zz"):
     """The net in which a tie is exchanged for two, by a new place between its ends."""
     ties = [other for other in net.ties if set(other) != set(tie)]
     return Net(text_of(net.places + (place,), ties + [(tie[0], place), (place, tie[1])]))
+
+
+# Two places, and a road over each of the fourteen others between them; and a tie between them, too.
+ROADS = Net(text_of(LETTERS, [(end, place) for end in "ab" for place in LETTERS[2:]]))
+TIED_ROADS = ROADS + ("a", "b")
+# A ring of six, and a further road over each tie of it.
+SPROUT = net_of("a b c d e f g h i j k l", "ab bc cd de ef fa ag gb bh hc ci id dj je ek kf fl la")
+# Three bundles of two roads each between three places, which are a row of thin ties alone.
+THIN = net_of("a b c d e f g h i", "ad db ae eb bf fc bg gc ch ha ci ia")
+# Bundles within bundles: between a and b hangs what has bundles between a and c, and between c and b.
+DEEP = net_of("a b c d e f g h i j k", "ac cd da ae ec af fc cb cg gb ch hb ai ib aj jb ak kb")
+# Stiff parts in a row, in a bundle, and in a stiff part.
+HEAPS = net_of("a b c d e f g h i j k l", "ac ad cb db ch ci hi hd id ae af ef fb ej jk jl kl kb lb ag gb")
+
+
+def tower(names, rings, beside, foot=(), top=()):
+    """Ties of rings of three around the first one of some names, one ring around the other: (ties, names not used).
+
+    Beside each tie of as many of the rings, from within, as beside tells, goes a road, too. foot and top are tied with
+    the outermost ring: foot with all its places if there is no top, otherwise each one with two of them.
+    """
+    rest = list(names)
+    inner, ties = [rest.pop(0)] * 3, []
+    for number in range(rings):
+        ring, rest = rest[:3], rest[3:]
+        ties += [tie for tie in zip(inner, ring) if tie not in ties]
+        for one, other in zip(ring, ring[1:] + ring[:1]):
+            ties.append((one, other))
+            if number < beside:
+                within = rest.pop(0)
+                ties += [(one, within), (within, other)]
+        inner = ring
+    ties += [(foot, near) for near in (inner[:2] if top else inner)]
+    if top:
+        ties += [(top, near) for near in inner[1:]]
+    return ties, rest
 
 
 # All drawings.

@@ -9,17 +9,13 @@ from alldrawn.nets import Net
 from alldrawn.sides import as_land, shows_as_land, shows_sides, sides
 from alldrawn.wishes import beside, meet, shows_beside, shows_meet, shows_with_ties, with_ties
 from tests.helper import (CHAIN, Case, FOUR, KITE, NETS, OTHER_NAMES, TENT, TWIG, all_drawings, drawings_by_roads,
-                          grown, net_of, own_ties, renamed, rings_of, rings_once, text_of, things_off, told_by, up_to,
-                          with_place_within)
+                          free_ties, grown, net_of, own_ties, renamed, rings_of, rings_once, text_of, things_off,
+                          told_by, up_to, with_place_within)
 
 SHOWS = {draw: shows_draw, sides: shows_sides, as_land: shows_as_land, meet: shows_meet, beside: shows_beside,
          with_ties: shows_with_ties}
 LOOSE = net_of("a b c d e f g", "ab bc cd de ef fa ac ad dg ga")
 CHOSEN = (KITE, FOUR, TWIG, TENT, LOOSE)
-
-
-def free_ties(net):
-    return [tie for tie in itertools.combinations(net.places, 2) if not net.tied(*tie)]
 
 
 def questions(net, seed=0, most=40):

@@ -54,6 +54,8 @@ def bound_names(tree):
             found.add(node.id)
         elif isinstance(node, ast.ImportFrom):
             found.update(alias.name for alias in node.names)
+        elif isinstance(node, ast.ExceptHandler) and node.name:
+            found.add(node.name)
     return found
 
 

@@ -7,19 +7,14 @@ import unittest
 
 from alldrawn.nets import Net
 from alldrawn.parts import parts, shows_parts
-from tests.helper import (BALL, CHAIN, Case, FIVE, FOUR, FULL, KITE, LETTERS, LONG, NETS, ODD, OTHER_NAMES, SQUARE, TEN,
-                          TENT, THREES, TRIANGLE, TWIG, WHEEL, bent, drawings_by_roads, groups, grown, hang_together,
-                          nested, net_of, renamed, text_of, up_to, wrong_values)
+from tests.helper import (BALL, CHAIN, Case, FIVE, FOUR, FULL, KITE, LETTERS, LONG, NETS, ODD, OTHER_NAMES, ROADS,
+                          SPROUT, SQUARE, TEN, TENT, THIN, THREES, TIED_ROADS, TRIANGLE, TWIG, WHEEL, bent,
+                          drawings_by_roads, groups, grown, hang_together, nested, net_of, renamed, text_of, up_to,
+                          wrong_values)
 
 RIGHT = (("row", ("a", "b", "c"), (("a", "b"), ("b", "c")), (("a", "c", 1),)),
          ("bundle", ("a", "c"), (("a", "c"),), (("a", "c", 0), ("a", "c", 2))),
          ("row", ("a", "c", "d"), (("a", "d"), ("c", "d")), (("a", "c", 1),)))
-# Two places, and a road over each of the fourteen others between them.
-ROADS = Net(text_of(LETTERS, [(end, place) for end in "ab" for place in LETTERS[2:]]))
-# Three bundles of two roads each between three places, which are a row of thin ties alone.
-THIN = net_of("a b c d e f g h i", "ad db ae eb bf fc bg gc ch ha ci ia")
-# A ring of six, and a further road over each tie of it.
-SPROUT = net_of("a b c d e f g h i j k l", "ab bc cd de ef fa ag gb bh hc ci id dj je ek kf fl la")
 
 
 def is_ascending(items, key):
@@ -182,9 +177,8 @@ class Parts(Case):
     def test_many_parts(self):
         self.same(sorts(ROADS), ["bundle"] + ["row"] * 14)
         self.check(ROADS)
-        tied = ROADS + ("a", "b")
-        self.same(sorts(tied), ["bundle"] + ["row"] * 14)
-        bundle = [part for part in self.check(tied) if part[0] == "bundle"][0]
+        self.same(sorts(TIED_ROADS), ["bundle"] + ["row"] * 14)
+        bundle = [part for part in self.check(TIED_ROADS) if part[0] == "bundle"][0]
         self.same((bundle[2], len(bundle[3])), ((("a", "b"),), 14))
         self.same(sorts(SPROUT), ["bundle"] * 6 + ["row"] * 7)
         self.check(SPROUT)

@@ -8,8 +8,8 @@ from alldrawn.errors import BadPlaces, BadTies, Full, NoPlace
 from alldrawn.nets import Net
 from alldrawn.wishes import beside, meet, shows_beside, shows_meet, shows_with_ties, with_ties
 from tests.helper import (BALL, CHAIN, Case, FIVE, FLAT, FOUR, FULL, KITE, LONG, ODD, SQUARE, TEN, THREES, TRIANGLE,
-                          TWIG, WHEEL, all_drawings, bent, drawings_by_roads, grown, nested, net_of, right_answer,
-                          text_of, up_to, wrong_values)
+                          TWIG, WHEEL, all_drawings, bent, drawings_by_roads, free_ties, grown, nested, net_of,
+                          right_answer, text_of, up_to, wrong_values)
 
 
 def lands_meet(drawing, some):
@@ -51,10 +51,6 @@ def groups_at(net, place):
     """All tuples of neighbours that beside can be asked about, each in one sequence."""
     near = net[place]
     return [some for many in range(2, len(near) - 1) for some in itertools.combinations(near, many)]
-
-
-def free_ties(net):
-    return [tie for tie in itertools.combinations(net.places, 2) if not net.tied(*tie)]
 
 
 class Asked(Case):
