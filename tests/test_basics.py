@@ -2,7 +2,8 @@
 
 import unittest
 
-from alldrawn.basics import from_first, is_name, is_number, pairs_round, pieces, reached
+from alldrawn.basics import (comes_ahead, ends_of_run, from_first, from_member, is_name, is_number, pairs_round, pieces,
+                             reached)
 from tests.helper import Case, FLAT, KITE, TWIG, nested
 
 
@@ -38,6 +39,22 @@ class Cycles(Case):
     def test_from_first(self):
         self.same(from_first(("d", "c", "b", "a"), ("a", "b", "c")), ("c", "a", "b"))
         self.same(from_first(("a", "b", "c"), ("a", "c", "b")), ("a", "c", "b"))
+
+
+    def test_from_member(self):
+        self.same(from_member(("a", "b", "c"), "b"), ("b", "c", "a"))
+        self.same(from_member(("a", "b", "c"), "a"), ("a", "b", "c"))
+
+    def test_comes_ahead(self):
+        cycle = ("a", "b", "c", "d")
+        for a, b, c, due in (("a", "b", "c", True), ("b", "a", "c", False), ("d", "a", "c", True),
+                             ("c", "b", "d", False)):
+            self.assertIs(comes_ahead(cycle, a, b, c), due)
+
+    def test_ends_of_run(self):
+        cycle = ("a", "b", "c", "d")
+        for some, due in (("ab", 1), ("da", 1), ("ac", 2), ("abcd", 0), ("", 0), ("b", 1), ("bcd", 1)):
+            self.same(ends_of_run(cycle, tuple(some)), due)
 
 
 class Pieces(Case):

@@ -1,9 +1,11 @@
 """The interface: names, arguments, and where each thing is defined."""
 
 import inspect
+import os
 import unittest
 
-from alldrawn import drawings, flat, nets, parts, rings, sides, wishes
+from alldrawn import (choosing, desk, drawings, errors, flat, further, journals, looks, nets, numbers, parts, rings,
+                      sheets, sides, turning, wishes)
 from tests.helper import Case, FLAT, KITE, SQUARE, TWIG
 
 FUNCTIONS = (
@@ -23,6 +25,24 @@ FUNCTIONS = (
     (wishes, "shows_with_ties", ["net", "ties", "value"]),
     (parts, "parts", ["net"]),
     (parts, "shows_parts", ["net", "value"]),
+    (numbers, "many", ["net"]),
+    (numbers, "nth", ["net", "number"]),
+    (numbers, "number_of", ["drawing"]),
+    (turning, "turned", ["drawing", "value"]),
+    (turning, "turns", ["one", "other"]),
+    (turning, "shows_turns", ["one", "other", "value"]),
+    (looks, "left", ["net", "looks"]),
+    (looks, "sure", ["net", "looks", "look"]),
+    (looks, "shows_sure", ["net", "looks", "look", "value"]),
+    (looks, "clash", ["net", "looks"]),
+    (looks, "shows_clash", ["net", "looks", "value"]),
+    (looks, "needless", ["net", "looks"]),
+    (looks, "asks", ["net", "looks"]),
+    (looks, "shows_asks", ["net", "looks", "value"]),
+    (further, "further", ["net", "one", "other"]),
+    (further, "shows_further", ["net", "one", "other", "value"]),
+    (choosing, "cheapest", ["net", "offers", "wishes"]),
+    (journals, "read_journal", ["names", "lines"]),
 )
 METHODS = (
     (nets, "Net", "__init__", ["self", "text"]),
@@ -32,11 +52,27 @@ METHODS = (
     (drawings, "Drawing", "land", ["self", "one", "other"]),
     (drawings, "Drawing", "in_turn", ["self", "place", "a", "b", "c"]),
     (drawings, "Drawing", "apart", ["self", "ring", "one", "other"]),
+    (sheets, "Sheet", "__init__", ["self", "names"]),
+    (sheets, "Sheet", "turn", ["self", "a", "b", "some"]),
+    (sheets, "Sheet", "take", ["self", "one", "other"]),
+    (sheets, "Sheet", "drop", ["self", "place"]),
+    (sheets, "Sheet", "undo", ["self"]),
+    (sheets, "Sheet", "redo", ["self"]),
+    (sheets, "Sheet", "trial", ["self"]),
+    (sheets, "Sheet", "keep", ["self"]),
+    (sheets, "Sheet", "copy", ["self"]),
+    (desk, "Desk", "__init__", ["self", "text"]),
+    (desk, "Desk", "say", ["self", "line"]),
 )
 OPERATORS = (
     (nets, "Net", ["__eq__", "__len__", "__contains__", "__getitem__", "__add__", "__sub__"]),
     (drawings, "Drawing", ["__eq__", "__contains__", "__invert__"]),
+    (sheets, "Sheet", ["__eq__", "__len__", "__contains__"]),
 )
+ERRORS = """BadNet NotTied NoPlace BadTie Full Few BadRing BadWheels Crossed BadLook NotOff NoDrawing BadPlaces BadTies
+    BadNumber BadTurning OtherNet BadLooks TooMany Against BadOffers BadWishes BadNames NotThere Tied NothingToUndo
+    NothingToRedo NoTrial BadJournal BadLine""".split()
+RING = ("a", "b", "c", "d")
 PLAIN = (inspect.Parameter.POSITIONAL_OR_KEYWORD,)
 
 
@@ -71,6 +107,36 @@ class Interface(Case):
     def test_attributes_are_set_from_the_beginning(self):
         self.assertLessEqual({"text", "places", "ties"}, set(vars(KITE)))
         self.assertLessEqual({"net", "wheels", "lands"}, set(vars(FLAT)))
+        self.assertLessEqual({"drawing", "net", "done", "journal"}, set(vars(sheets.Sheet(RING))))
+        self.assertLessEqual({"drawing", "net", "done", "journal"}, set(vars(sheets.Sheet(RING).copy())))
+        self.assertLessEqual({"sheet"}, set(vars(desk.Desk("ring a b c"))))
+
+    def test_errors(self):
+        for name in ERRORS:
+            error = vars(errors)[name]
+            self.assertEqual((error.__module__, error.__bases__), ("alldrawn.errors", (errors.DrawError,)))
+        defined = [name for name, value in vars(errors).items() if inspect.isclass(value)]
+        self.assertEqual(sorted(defined), sorted(ERRORS + ["DrawError"]))
+        self.assertEqual(errors.DrawError.__bases__, (ValueError,))
+
+    def test_road_and_tried(self):
+        road = list(inspect.signature(sheets.Sheet.road).parameters.values())
+        self.assertEqual([parameter.name for parameter in road], ["self", "tie", "one", "other", "inner"])
+        self.assertTrue(all(parameter.kind in PLAIN for parameter in road))
+        self.same(road[-1].default, ())
+        tried = list(inspect.signature(sheets.Sheet.tried).parameters.values())
+        self.assertEqual([parameter.name for parameter in tried], ["self", "look", "keep"])
+        self.assertIs(tried[-1].kind, inspect.Parameter.KEYWORD_ONLY)
+        self.assertIs(tried[-1].default, False)
+        for name in ("road", "tried"):
+            self.assertIn(name, vars(sheets.Sheet))
+
+    def test_all_that_is_listed(self):
+        told = {module.__name__ for module, *_ in FUNCTIONS + METHODS} | {errors.__name__}
+        folder = os.path.dirname(errors.__file__)
+        modules = {"alldrawn." + name[:-3] for name in os.listdir(folder) if name.endswith(".py")}
+        own = {"alldrawn.__init__", "alldrawn.basics", "alldrawn.roads", "alldrawn.shapes"}
+        self.assertEqual(modules - own, told)
 
     def test_kinds_of_attributes(self):
         self.assertIs(type(KITE.text), str)
@@ -116,6 +182,73 @@ class Interface(Case):
         value = parts.parts(net=TWIG)
         self.assertEqual(value, parts.parts(TWIG))
         self.assertIs(parts.shows_parts(value=value, net=TWIG), True)
+
+    def test_arguments_of_numbers_and_turnings_by_name(self):
+        self.same(numbers.many(net=TWIG), 4)
+        drawing = numbers.nth(number=3, net=TWIG)
+        self.assertEqual(drawing, numbers.nth(TWIG, 3))
+        self.same(numbers.number_of(drawing=drawing), 3)
+        self.assertEqual(turning.turned(value=("a", "c", ("t",)), drawing=drawing),
+                         turning.turned(drawing, ("a", "c", ("t",))))
+        other = numbers.nth(TWIG, 0)
+        value = turning.turns(other=other, one=drawing)
+        self.assertEqual(value, turning.turns(drawing, other))
+        self.assertIs(turning.shows_turns(value=value, other=other, one=drawing), True)
+        self.assertIs(turning.shows_turns(value=(), other=other, one=drawing), False)
+
+    def test_arguments_of_looks_by_name(self):
+        seen, look = (("a", "b", "d", "t"),), ("a", "b", "t", "u")
+        self.same(looks.left(looks=seen, net=TWIG), 2)
+        value = looks.sure(look=look, looks=seen, net=TWIG)
+        self.assertEqual(value, looks.sure(TWIG, seen, look))
+        self.assertIs(looks.shows_sure(value=value, look=look, looks=seen, net=TWIG), True)
+        self.same(looks.clash(looks=seen, net=TWIG), ())
+        self.assertIs(looks.shows_clash(value=(), looks=seen, net=TWIG), True)
+        self.same(looks.needless(looks=seen, net=TWIG), ())
+        value = looks.asks(looks=seen, net=TWIG)
+        self.assertEqual(value, looks.asks(TWIG, seen))
+        self.assertIs(looks.shows_asks(value=value, looks=seen, net=TWIG), True)
+
+    def test_arguments_of_choices_by_name(self):
+        value = further.further(other="b", one="t", net=TWIG)
+        self.assertEqual(value, further.further(TWIG, "t", "b"))
+        self.assertIs(further.shows_further(value=value, other="b", one="t", net=TWIG), True)
+        offers = ((("b", "t"), 2),)
+        self.assertEqual(choosing.cheapest(wishes=(("one",),), offers=offers, net=TWIG),
+                         choosing.cheapest(TWIG, offers, (("one",),)))
+
+    def test_arguments_of_sheets_by_name(self):
+        sheet = sheets.Sheet(names=RING)
+        self.assertIsNone(sheet.road(other="c", one="a", tie=("a", "b")))
+        self.assertIsNone(sheet.road(inner=("e",), other="b", one="a", tie=("a", "b")))
+        self.assertIsNone(sheet.turn(some=("d",), b="c", a="a"))
+        self.assertIsNone(sheet.take(other="c", one="a"))
+        self.assertIsNone(sheet.drop(place="e"))
+        self.same(sheet.journal, ("road a b a c", "road a b a b e", "turn a c d", "take a c", "drop e"))
+        self.assertTrue(journals.read_journal(lines=sheet.journal, names=RING) == sheet)
+        self.same(sheet.tried(keep=False, look=len), 4)
+        told = desk.Desk(text="ring a b c d")
+        self.same(told.say(line="many"), "1")
+
+    def test_parameters_by_name_only(self):
+        with self.assertRaises(TypeError):
+            sheets.Sheet(RING).tried(len, False)
+
+    def test_methods_without_a_result(self):
+        sheet = sheets.Sheet(RING)
+        self.assertIsNone(sheet.road(("a", "b"), "a", "c"))
+        self.assertIsNone(sheet.undo())
+        self.assertIsNone(sheet.redo())
+        with sheet.trial():
+            self.assertIsNone(sheet.keep())
+
+    def test_kinds_of_attributes_of_sheets(self):
+        sheet = sheets.Sheet(RING)
+        self.assertIs(type(sheet.drawing), drawings.Drawing)
+        self.assertIs(type(sheet.net), nets.Net)
+        self.same((sheet.done, sheet.journal), (0, ()))
+        self.assertIs(type(desk.Desk("ring a b c").sheet), sheets.Sheet)
+        self.assertIs(type(sheet.copy()), sheets.Sheet)
 
 
 if __name__ == "__main__":
