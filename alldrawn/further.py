@@ -37,8 +37,6 @@ def way_between(whole, one, other):
     way = [[at for at in before if other in whole[at][1]][0]]
     while one not in whole[way[0]][1]:
         way = [before[way[0]]] + way
-    while len(way) > 1 and other in whole[way[-2]][1]:
-        way = way[:-1]
     return way
 
 
@@ -97,15 +95,14 @@ def crossed_in(drawing, whole, stretch):
     """The fewest ties that are crossed, one behind the other, from one end of a stretch to the other, in a drawing."""
     at, start, end = stretch
     walks = drawing.lands
-    before, behind = ways_beyond(whole, at, start), ways_beyond(whole, at, end)
     by_way = lands_by_way(walks)
-    thick = {way: FAR if way in before or way in behind else 1 for way in by_way}
-    levels = levels_from(walks, thick, lands_beside(walks, start, before))
-    here = min(lands_beside(walks, end, behind), key=lambda number: levels[number])
+    first = lands_beside(walks, start, ways_beyond(whole, at, start))
+    last = lands_beside(walks, end, ways_beyond(whole, at, end))
+    levels = levels_from(walks, {way: 1 for way in by_way}, first)
+    here = min(last, key=lambda number: levels[number])
     crossed = ()
     while levels[here] > 0:
-        one, other = [way for way in pairs_round(walks[here])
-                      if levels[by_way[way[1], way[0]]] + thick[way] == levels[here]][0]
+        one, other = [way for way in pairs_round(walks[here]) if levels[by_way[way[1], way[0]]] < levels[here]][0]
         crossed = ((one, other) if (one, other) in drawing.net.ties else (other, one),) + crossed
         here = by_way[other, one]
     return crossed

@@ -144,8 +144,6 @@ class Sheet:
 
     def take(self, one, other):
         """Take a tie away: BadTie, NotTied."""
-        if not is_tie(self.net, (one, other)):
-            raise BadTie((one, other))
         self._do(left_of(self.drawing, self.net - (one, other)), ["take", one, other])
 
     def drop(self, place):

@@ -15,7 +15,7 @@ from alldrawn.roads import roads_between
 from tests.helper import (BALL, Case, DEEP, FIVE, FLAT, FOUR, FULL, HEAPS, KITE, LETTERS, LONG, ODD, ROADS,
                           SPROUT, SQUARE, TEN, TENT, THIN, THREES, TRIANGLE, TWIG, WHEEL, all_drawings, bent,
                           drawings_by_roads, fewest_crossed, free_ties, grown, hang_together, lands_of, nested, net_of,
-                          own_ties, rings_of, side_of, text_of, tower, up_to, wrong_values)
+                          own_ties, rings_of, rings_once, side_of, text_of, tower, up_to, wrong_values)
 
 ROUND = ("a", "b", "c", "d")
 
@@ -308,6 +308,20 @@ class ShowsFurther(Asked):
                 self.compare(net, drawings, one, other, (value[0], drawing) + value[2:])
                 self.compare(net, drawings, one, other, (value[0], drawing, value[2][::-1], value[3][::-1]))
                 self.compare(net, drawings, other, one, (value[0], drawing, value[2][::-1], value[3]))
+
+    def test_all_pairs_of_rings(self):
+        # Rings that part the places in no drawing, or that share a tie, show nothing.
+        ties, _ = tower("bcdefgh", 2, 0, "a")
+        net = Net(text_of("abcdefgh", ties))
+        drawings = drawings_by_roads(net)
+        number, drawing, crossed, _ = further(net, "a", "b")
+        rings = [ring for ring in rings_once(net) if not {"a", "b"} & set(ring)]
+        right = [self.compare(net, drawings, "a", "b", (number, drawing, crossed, (one, other)))
+                 for one in rings for other in rings]
+        self.assertLess(1, right.count(True))
+        apart = [ring for ring in rings if side_of(drawing, ring, "a") != side_of(drawing, ring, "b")]
+        self.assertLess(right.count(True), len(apart) ** 2)
+        self.assertLess(len(apart), len(rings))
 
     def test_more_than_must_be(self):
         # One can cross more ties; then there are no rings that show that one must.

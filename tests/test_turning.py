@@ -193,6 +193,17 @@ class Turns(Case):
                 self.check(one, other)
                 self.check(one, ~one)
 
+    def test_in_another_sequence(self):
+        # The first part, and the first one of the thin ties, are others then.
+        chance = random.Random(5)
+        for net in (HEAPS, DEEP, TWIG, TENT, grown(5, places=16, ties=30)[0], grown(8, places=14, ties=24)[0]):
+            for _ in range(12):
+                places = list(net.places)
+                chance.shuffle(places)
+                again = Net(text_of(places, net.ties))
+                for _ in range(2):
+                    self.check(nth(again, chance.randrange(many(again))), nth(again, chance.randrange(many(again))))
+
     def test_nets_that_grow(self):
         chance = random.Random(4)
         for seed in range(30):
