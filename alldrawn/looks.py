@@ -276,17 +276,21 @@ def asks(net, looks):
     return tuple(sorted([look for at in range(len(whole)) for look in asks_at(net, whole, at, glances)]))
 
 
+def are_least(all_wheels, glances):
+    """Whether looks, all at one part, tell apart all these wheels of it, and none of the looks can be left out."""
+    if not tell_apart(all_wheels, glances):
+        return False
+    for number in range(len(glances)):
+        # The first needless one tells it: there can be hundreds of looks.
+        if tell_apart(all_wheels, others(glances, number)):
+            return False
+    return True
+
+
 def shows_asks(net, looks, value):
     """Whether any value is a correct result of asks: BadLooks, TooMany, NoDrawing, Against."""
     whole, glances = asked_at_all(net, looks)
     if not are_looks(net, value):
         return False
     asked = glances_of(whole, value)
-    for at in range(len(whole)):
-        all_wheels = wheels_having(whole, at, glances)
-        ours = glances_at(asked, at)
-        if not tell_apart(all_wheels, ours):
-            return False
-        if any([tell_apart(all_wheels, others(ours, number)) for number in range(len(ours))]):
-            return False
-    return True
+    return all([are_least(wheels_having(whole, at, glances), glances_at(asked, at)) for at in range(len(whole))])

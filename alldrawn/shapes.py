@@ -112,17 +112,17 @@ def number_of_order(sticks, order):
 
 
 def stick_by_ends(part):
-    """For each two places of a stiff part, told both ways, the stick between them, if there is one: a dict."""
+    """For each two places of a part that is no bundle, told both ways, the stick between them, if any: a dict."""
     return {(place, far_end(stick, place)): stick for place in part[1] for stick in sticks_at(part, place)}
 
 
 def wheels_by_places(part):
-    """The wheels of a stiff part, as it is drawn one way, each stick being told by its other end."""
+    """The wheels of a part that is no bundle, as it is drawn one way, each stick being told by its other end."""
     return wheels_in({place: tuple([far_end(stick, place) for stick in sticks_at(part, place)]) for place in part[1]})
 
 
-def wheels_of_stiff(part):
-    """The wheels of a stiff part, as it is drawn one way."""
+def first_wheels(part):
+    """The wheels of a row, or of a stiff part as it is drawn one way."""
     by_ends = stick_by_ends(part)
     drawn = wheels_by_places(part)
     return {place: tuple([by_ends[place, near] for near in drawn[place]]) for place in drawn}
@@ -133,9 +133,7 @@ def nth_wheels(part, number):
     if part[0] == "bundle":
         order = nth_order(sticks_of(part), number)
         return {part[1][0]: order, part[1][1]: order[::-1]}
-    if part[0] == "row":
-        return {place: sticks_at(part, place) for place in part[1]}
-    wheels = wheels_of_stiff(part)
+    wheels = first_wheels(part)
     if number == 0:
         return wheels
     return {place: wheels[place][::-1] for place in wheels}
@@ -147,9 +145,7 @@ def number_within(drawing, whole, at):
     order = order_at(drawing, whole, at, part[1][0])
     if part[0] == "bundle":
         return number_of_order(sticks_of(part), order)
-    if part[0] == "row":
-        return 0
-    return int(from_member(wheels_of_stiff(part)[part[1][0]], order[0]) != order)
+    return int(from_member(first_wheels(part)[part[1][0]], order[0]) != order)
 
 
 def neighbours_over(chosen, at, stick, place):

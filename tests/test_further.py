@@ -12,12 +12,15 @@ from alldrawn.nets import Net
 from alldrawn.numbers import many, nth
 from alldrawn.parts import parts
 from alldrawn.roads import roads_between
+from alldrawn.sides import sides
 from tests.helper import (BALL, Case, DEEP, FIVE, FLAT, FOUR, FULL, HEAPS, KITE, LETTERS, LONG, ODD, ROADS,
                           SPROUT, SQUARE, TEN, TENT, THIN, THREES, TRIANGLE, TWIG, WHEEL, all_drawings, bent,
                           drawings_by_roads, fewest_crossed, free_ties, grown, hang_together, lands_of, nested, net_of,
                           own_ties, rings_of, rings_once, side_of, text_of, tower, up_to, wrong_values)
 
 ROUND = ("a", "b", "c", "d")
+# A place in a ring of three, and one outside, with further places beside the ties of the ring.
+LOOP = net_of("p x y z q e f g", "px py pz xy yz zx qx qy qz xe ey yf fz zg gx")
 
 
 def can_cross(drawing, one, other, crossed):
@@ -322,6 +325,22 @@ class ShowsFurther(Asked):
         apart = [ring for ring in rings if side_of(drawing, ring, "a") != side_of(drawing, ring, "b")]
         self.assertLess(right.count(True), len(apart) ** 2)
         self.assertLess(len(apart), len(rings))
+
+    def test_rings_that_part_in_some_drawings_alone(self):
+        # One can cross a tie of the drawing, but the ring does not show that one must.
+        words = []
+        for net in up_to(5) + [TWIG, TENT, LOOP, BALL - ("a", "b")]:
+            drawings = drawings_by_roads(net)
+            for one, other in free_ties(net) if drawings else ():
+                rings = [ring for ring in rings_once(net) if not {one, other} & set(ring)]
+                for drawing in drawings[:3]:
+                    ways = [tie for tie in net.ties if can_cross(drawing, one, other, (tie,))][:2]
+                    for tie, ring in itertools.product(ways, rings):
+                        right = self.compare(net, drawings, one, other, (1, drawing, (tie,), (ring,)))
+                        words.append((sides(net, ring, one, other)[0], right))
+        self.assertLess(10, min(words.count(("apart", True)), words.count(("open", False)),
+                                words.count(("together", False))))
+        self.assertFalse({("apart", False), ("open", True), ("together", True)} & set(words))
 
     def test_more_than_must_be(self):
         # One can cross more ties; then there are no rings that show that one must.

@@ -20,6 +20,9 @@ SIX = net_of("a b c d e f g h i j", "ac cb ad db ae eb af fb ag gh hb gi ij jb h
 SEVEN = net_of("a b c d e f g h i j k", "ac cb ad db ae eb af fb ag gh hb gi ij jb hj ah ak kb ab")
 # A bundle of seven, one of which is all that is tied of five places, two of them being its ends.
 STUCK = net_of("a b c d e f g h i j k", "ac ad ae bc bd be cd ce de af fb ag gb ah hb ai ib aj jb ak kb")
+# Three bundles of six, each with a thin tie to a row of their three places, and a stiff part over one of the roads.
+SIXES = net_of("a b c d e f g h i j k l m n o p",
+               "ab bc ca ad db ae eb af fb ag gb bh hc bi ic bj jc bk kc cl la cm ma cn na co oa cp pa op")
 # A place amid a ring.
 HUB = Net(text_of("abcdefghij", [("a", place) for place in "bcdefghij"] + list(zip("bcdefghij", "cdefghijb"))))
 UNDRAWABLE = (FIVE, THREES, WHEEL, ODD, TEN)
@@ -235,6 +238,25 @@ class AllFunctions(Looked):
             for call, given in ((left, ()), (clash, ()), (needless, ()), (asks, ()), (sure, (seen[0],)),
                                 (shows_sure, (seen[0], None)), (shows_clash, (None,)), (shows_asks, (None,))):
                 self.refused_itself(BadLooks, more, call, net, more, *given)
+
+    def test_asks_of_any_number(self):
+        self.same(sorted(len(part[2] + part[3]) for part in parts(SIXES) if part[0] == "bundle"), [6, 6, 6])
+        self.same(many(SIXES), 120 ** 3 * 2)
+        value = asks(SIXES, ())
+        self.assertLess(30, len(value))
+        self.assertIs(shows_asks(SIXES, (), value), True)
+        # So many looks can be told, but not handed in.
+        self.refused_itself(BadLooks, value, left, SIXES, value)
+        whole = tuple(looks_of(SIXES))
+        self.assertLess(700, len(whole))
+        for worse in (whole, whole[1:], value[1:], value[:-1], value[:9] + value[10:], value[::-1],
+                      tuple(sorted(value + whole[:1])), tuple(sorted(value + (contrary(value[0]),)))):
+            self.assertIs(shows_asks(SIXES, (), worse), worse == value, worse)
+        drawing = nth(SIXES, 1234567)
+        had = tuple(sorted(look if look_is_so(drawing, look) else contrary(look) for look in value))[:30]
+        self.assertLess(0, left(SIXES, had))
+        self.assertIs(shows_asks(SIXES, had, asks(SIXES, had)), True)
+        self.assertIs(shows_asks(SIXES, had, value), False)
 
     def test_asks_of_many_looks(self):
         self.same(len(asks(HUB, ())), 1)
